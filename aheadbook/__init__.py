@@ -1,0 +1,1 @@
+"""Aheadbook: rows in which two neighbours may change places by who stands ahead."""

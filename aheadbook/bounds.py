@@ -1,0 +1,4 @@
+"""The limits that the whole program keeps."""
+
+MOST_HANDS = 8
+MOST_LETTERS = 8
