@@ -47,9 +47,12 @@ def is_set(hands, thing):
     """Whether it is a set of these hands: a tuple of unlike ones, rising."""
     if not isinstance(thing, tuple):
         return False
-    if not all([hand in hands for hand in thing]):
-        return False
-    return all([thing[k - 1] < thing[k] for k in range(1, len(thing))])
+    return all([hand in hands for hand in thing]) and is_rising(thing)
+
+
+def is_rising(things):
+    """Whether each is less than the next one, and so none there twice."""
+    return all([things[k - 1] < things[k] for k in range(1, len(things))])
 
 
 def sets_of(hands):

@@ -14,8 +14,9 @@ def is_row(hands, thing):
 def check_rows(rows):
     """Refuses the first that is no row, or a row of other hands than the first."""
     first = rows[0]
-    if not isinstance(first, tuple) or not are_hands(first):
+    if not are_hands(first):
         raise NoRow(copied(first))
+    # The first one, too: a list of hands is no row of them.
     for row in rows:
         if not is_row(first, row):
             raise NoRow(copied(row))

@@ -184,13 +184,6 @@ class CountTest(unittest.TestCase, Refusing):
             self.refused(NoRow, {"asked": other}, count_over, row, other)
             self.refused(NoRow, {"asked": other}, over_at, row, other, None)
 
-    def test_a_refused_list_stays_as_it_was(self):
-        asked = [[0]]
-        with self.assertRaises(NoNumber) as caught:
-            over_at(("ann", "bob"), ("bob", "ann"), asked)
-        caught.exception.asked[0].append(1)
-        self.assertEqual(asked, [[0]])
-
     def test_by_names(self):
         one, other = ("ann", "bob"), ("bob", "ann")
         self.assertEqual(count_over(other=other, one=one), 1)

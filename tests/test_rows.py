@@ -82,6 +82,7 @@ class IsRowTest(unittest.TestCase):
             with self.subTest(thing=thing):
                 self.assertIs(is_row(hands, thing), False)
         self.assertIs(is_row(("a", "b"), "ab"), False)
+        self.assertIs(is_row(("a", "b"), ["a", "b"]), False)
         self.assertIs(is_row(("a",), "a"), False)
 
     def test_by_names(self):
@@ -184,13 +185,6 @@ class ChangeTest(unittest.TestCase, Refusing):
                 with self.subTest(thing=thing, place=place):
                     self.refused(NoRow, {"asked": thing}, changed, thing, place)
                     self.refused(NoRow, {"asked": thing}, let_at, thing, place)
-
-    def test_a_refused_list_stays_as_it_was(self):
-        asked = ["bob", ["ann"]]
-        with self.assertRaises(NoRow) as caught:
-            changed(asked, 0)
-        caught.exception.asked[1].append("more")
-        self.assertEqual(asked, ["bob", ["ann"]])
 
     def test_by_names(self):
         self.assertEqual(changed(place=0, row=("ann", "bob")), ("bob", "ann"))

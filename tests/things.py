@@ -1,6 +1,6 @@
 """Things and sayings that several tests share."""
 
-from itertools import combinations
+from itertools import combinations, permutations
 
 NAMES = ("ann", "bob", "cay", "dan", "eve", "fay", "gus", "hal")
 
@@ -60,3 +60,131 @@ class Refusing:
         for name, worth in fields.items():
             # The written form tells True from 1, which == does not.
             self.assertEqual(repr(getattr(caught.exception, name)), repr(worth))
+
+
+NO_HANDS = NOTHINGS + [
+    (),
+    [],
+    NAMES + ("zoe",),
+    list(NAMES + ("zoe",)),
+    ["ann", "ann"],
+    ("ann", "bob", "ann"),
+    ["Ann"],
+    ["anN", "bob"],
+    ["ann", ""],
+    ["ann", "ninesigns"],
+    ["ann", "bob1"],
+    ["ann", "b b"],
+    ["ann", "bob\n"],
+    ["ann", "b_b"],
+    ["`"],
+    ["{"],
+    ["ann", 1],
+    ["ann", True],
+    ["ann", None],
+    ["ann", ["bob"]],
+    [("ann",), "bob"],
+    {"ann": "ann", "bob": "bob"},
+    "a",
+]
+
+# Of ann, bob, cay, dan.
+NO_LETS = NOTHINGS + [
+    (),
+    [],
+    ("ann", "bob"),
+    ("ann", "bob", (), ()),
+    ("bob", "ann", ()),
+    ("cay", "bob", ("ann",)),
+    ("ann", "ann", ()),
+    ("ann", "zoe", ()),
+    ("aaa", "bob", ()),
+    ("ann", "bob", ("zoe",)),
+    ("ann", "bob", ("ann",)),
+    ("ann", "bob", ("bob",)),
+    ("ann", "bob", ("cay", "zoe")),
+    ("ann", "bob", ("bob", "cay")),
+    ("ann", "bob", ("dan", "cay")),
+    ("ann", "bob", ("cay", "cay")),
+    ["ann", "bob", ()],
+    ("ann", "bob", []),
+    ("ann", "bob", ["cay"]),
+    ("ann", "bob", (["cay"],)),
+    ("ann", "bob", (("cay",),)),
+    ("ann", ["bob"], ()),
+    (("ann",), "bob", ()),
+    ("ann", "bob", "cay"),
+    ("ann", "bob", ""),
+    ("ann", "bob", None),
+    ("ann", "bob", False),
+    ("ann", "bob", 0),
+    ("ann", "bob", {}),
+    ("ann", "bob", {"cay": "cay"}),
+    ("ann", "bob", ("cay", None)),
+    ("ann", "bob", ("cay", 1)),
+    ("ann", None, ()),
+    (1, 2, ()),
+    (True, "bob", ()),
+    ("an", "bob", ()),
+    ("Ann", "bob", ()),
+    (("ann", "bob", ()),),
+]
+
+# Of ann, bob, cay, dan.
+NO_WEBS = NOTHINGS + [
+    [],
+    "ann bob",
+    [("ann", "bob")],
+    ("ann", "bob"),
+    (("ann", "bob"), ("bob", "cay")),
+    (("ann", "bob"), ("ann", "cay"), ("bob", "cay"), ("cay", "dan")),
+    (("ann", "bob"), ("ann", "cay"), ("ann", "dan"), ("bob", "cay"), ("cay", "dan")),
+    (("ann", "ann"),),
+    (("ann", "bob"), ("bob", "ann")),
+    (("ann", "ann"), ("ann", "bob"), ("bob", "ann"), ("bob", "bob")),
+    (("ann", "bob"), ("bob", "cay"), ("cay", "ann")),
+    (("ann", "cay"), ("ann", "bob")),
+    (("cay", "dan"), ("ann", "bob")),
+    (("ann", "bob"), ("ann", "bob")),
+    (("ann", "zoe"),),
+    (("zoe", "ann"),),
+    (("Ann", "bob"),),
+    (["ann", "bob"],),
+    (("ann", "bob"), ["cay", "dan"]),
+    (("ann", "bob", "cay"),),
+    (("ann",),),
+    ((),),
+    (("ann", "bob"), None),
+    (("ann", "bob"), True),
+    (("ann", None),),
+    (("ann", 1),),
+    (("ann", ("bob",)),),
+    (("ann", ["bob"]),),
+    (("ann", {"bob": 1}),),
+    ({"ann": "bob"},),
+    {("ann", "bob"): True},
+    ("ab",),
+]
+
+
+def keeping(hands, pairs):
+    """The rows of hands in which a stands ahead of b for each pair, rising."""
+    return [row for row in permutations(sorted(hands)) if all(row.index(a) < row.index(b) for a, b in pairs)]
+
+
+def pair_sets(hands):
+    """All tuples of pairs of two unlike hands, each rising."""
+    pairs = list(permutations(sorted(hands), 2))
+    for many in range(len(pairs) + 1):
+        yield from combinations(pairs, many)
+
+
+def following(hands, pairs):
+    """All that follows from pairs by which the hands can stand: what every row that keeps them has."""
+    rows = keeping(hands, pairs)
+    return tuple((a, b) for a, b in permutations(sorted(hands), 2) if all(row.index(a) < row.index(b) for row in rows))
+
+
+def webs_of(hands):
+    """All webs of hands."""
+    return sorted({following(hands, pairs) for pairs in pair_sets(hands) if keeping(hands, pairs)})

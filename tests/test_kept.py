@@ -1,0 +1,71 @@
+"""[2] What a refusal keeps of the thing handed in is a copy."""
+
+import unittest
+
+from aheadbook.books import Book
+from aheadbook.heads import heads, nexts
+from aheadbook.lets import every_let
+from aheadbook.makers import by_between, by_counts, by_pairs, by_web
+from aheadbook.overs import count_over, is_between, over, over_at
+from aheadbook.rows import changed, let_at, turned
+from aheadbook.webs import keeps, ties
+
+ROW = ("ann", "bob")
+CALLS = [
+    lambda thing: turned(thing, ROW),
+    lambda thing: turned(ROW, thing),
+    lambda thing: changed(thing, 0),
+    lambda thing: changed(ROW, thing),
+    lambda thing: let_at(thing, 0),
+    lambda thing: let_at(ROW, thing),
+    lambda thing: over(thing, ROW),
+    lambda thing: is_between(ROW, ROW, thing),
+    lambda thing: count_over(ROW, thing),
+    lambda thing: over_at(ROW, thing, 0),
+    lambda thing: over_at(ROW, ROW, thing),
+    every_let,
+    Book,
+    lambda thing: Book(ROW, [thing]),
+    lambda thing: by_pairs(thing, []),
+    lambda thing: by_counts(thing, []),
+    lambda thing: by_between(thing, 0, 0),
+    lambda thing: by_web(thing, ()),
+    lambda thing: by_web(ROW, thing),
+    lambda thing: keeps(thing, ROW),
+    lambda thing: ties(ROW, thing),
+    lambda thing: heads(ROW, thing),
+    lambda thing: nexts(ROW, (), thing),
+]
+
+
+class KeptTest(unittest.TestCase):
+    def kept(self, call, thing):
+        with self.assertRaises((ValueError, LookupError)) as caught:
+            call(thing)
+        return caught.exception.asked
+
+    def test_of_lists_tuples_and_dicts(self):
+        for k, call in enumerate(CALLS):
+            with self.subTest(call=k):
+                for thing, inner in [
+                    (["ann", ["bob"]], lambda whole: whole[1]),
+                    (("ann", ["bob"]), lambda whole: whole[1]),
+                    (("ann", (["bob"],)), lambda whole: whole[1][0]),
+                    ({"ann": ["bob"]}, lambda whole: whole["ann"]),
+                    ([{"ann": (["bob"],)}], lambda whole: whole[0]["ann"][0]),
+                ]:
+                    kept = self.kept(call, thing)
+                    self.assertEqual(kept, thing)
+                    inner(kept).append("more")
+                    self.assertEqual(inner(thing), ["bob"])
+
+    def test_of_lets_that_are_no_list(self):
+        thing = {"ann": ["bob"]}
+        kept = self.kept(lambda lets: Book(ROW, lets), thing)
+        kept["ann"].append("more")
+        kept["bob"] = None
+        self.assertEqual(thing, {"ann": ["bob"]})
+
+
+if __name__ == "__main__":
+    unittest.main()
