@@ -63,6 +63,16 @@ def sets_of(hands):
     return sorted(found)
 
 
+def rest_of(hands, members):
+    """The hands that are not among these members."""
+    return [hand for hand in hands if hand not in members]
+
+
+def united(one, other):
+    """The set of all hands of two sets without a like one."""
+    return tuple(sorted(one + other))
+
+
 def twos_of(hands):
     """All tuples of two of these hands, the lesser first, rising."""
     ordered = sorted(hands)

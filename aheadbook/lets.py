@@ -1,6 +1,6 @@
 """Lets: two hands, and the set that stands ahead of both when they may change places."""
 
-from aheadbook.kinds import check_hands, is_set, sets_of, twos_of
+from aheadbook.kinds import check_hands, is_set, rest_of, sets_of, twos_of
 
 
 def is_let(hands, thing):
@@ -11,7 +11,7 @@ def is_let(hands, thing):
     # Both are hands before they are compared: other things may have no order.
     if p not in hands or q not in hands or not p < q:
         return False
-    return is_set(others_of(hands, p, q), ahead)
+    return is_set(rest_of(hands, (p, q)), ahead)
 
 
 def every_let(hands):
@@ -19,10 +19,5 @@ def every_let(hands):
     check_hands(hands)
     lets = []
     for p, q in twos_of(hands):
-        lets.extend([(p, q, ahead) for ahead in sets_of(others_of(hands, p, q))])
+        lets.extend([(p, q, ahead) for ahead in sets_of(rest_of(hands, (p, q)))])
     return lets
-
-
-def others_of(hands, p, q):
-    """The hands but these two."""
-    return [hand for hand in hands if hand not in (p, q)]

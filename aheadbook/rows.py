@@ -11,6 +11,20 @@ def is_row(hands, thing):
     return all([hand in thing for hand in hands])
 
 
+def rows_of(hands):
+    """All rows of these hands, rising."""
+    rows = [()]
+    for _ in hands:
+        rows = [row + (hand,) for row in rows for hand in sorted(hands) if hand not in row]
+    return rows
+
+
+def check_row(hands, row):
+    """Refuses what is no row of these hands."""
+    if not is_row(hands, row):
+        raise NoRow(copied(row))
+
+
 def check_rows(rows):
     """Refuses the first that is no row, or a row of other hands than the first."""
     first = rows[0]
@@ -18,13 +32,17 @@ def check_rows(rows):
         raise NoRow(copied(first))
     # The first one, too: a list of hands is no row of them.
     for row in rows:
-        if not is_row(first, row):
-            raise NoRow(copied(row))
+        check_row(first, row)
+
+
+def is_place(row, thing):
+    """Whether it is a place of a change in the row."""
+    return is_number(thing) and 0 <= thing < len(row) - 1
 
 
 def check_place(row, place):
     """Refuses what is no place of a change in the row."""
-    if not is_number(place) or not 0 <= place < len(row) - 1:
+    if not is_place(row, place):
         raise NoPlace(copied(place))
 
 
@@ -45,6 +63,11 @@ def let_at(row, place):
     """The let that the change at this place wants."""
     check_rows((row,))
     check_place(row, place)
+    return wanted(row, place)
+
+
+def wanted(row, place):
+    """The same of what surely are a row and a place of it."""
     p, q = sorted(row[place:place + 2])
     return (p, q, tuple(sorted(row[:place])))
 

@@ -3,11 +3,14 @@
 import unittest
 
 from aheadbook.books import Book
+from aheadbook.breaches import shown
 from aheadbook.heads import heads, nexts
 from aheadbook.lets import every_let
+from aheadbook.lots import fewest, lot, nearest
 from aheadbook.makers import by_between, by_counts, by_pairs, by_web
 from aheadbook.overs import count_over, is_between, over, over_at
 from aheadbook.rows import changed, let_at, turned
+from aheadbook.ways import walked
 from aheadbook.webs import keeps, ties
 
 ROW = ("ann", "bob")
@@ -35,6 +38,11 @@ CALLS = [
     lambda thing: ties(ROW, thing),
     lambda thing: heads(ROW, thing),
     lambda thing: nexts(ROW, (), thing),
+    lambda thing: walked(Book(ROW), thing, ()),
+    lambda thing: lot(Book(ROW), thing),
+    lambda thing: fewest(Book(ROW), thing, ROW),
+    lambda thing: nearest(Book(ROW), ROW, thing),
+    lambda thing: shown(Book(ROW), thing),
 ]
 
 

@@ -1,6 +1,7 @@
 """Things and sayings that several tests share."""
 
 from itertools import combinations, permutations
+from zlib import crc32
 
 NAMES = ("ann", "bob", "cay", "dan", "eve", "fay", "gus", "hal")
 
@@ -188,3 +189,88 @@ def following(hands, pairs):
 def webs_of(hands):
     """All webs of hands."""
     return sorted({following(hands, pairs) for pairs in pair_sets(hands) if keeping(hands, pairs)})
+
+
+def wanted_let(row, place):
+    """What the change of a row at a place wants."""
+    return (*sorted(row[place:place + 2]), tuple(sorted(row[:place])))
+
+
+def let_steps(lets, row):
+    """Each place at which a change is let, with the row behind it."""
+    for place in range(len(row) - 1):
+        if wanted_let(row, place) in lets:
+            yield place, row[:place] + (row[place + 1], row[place]) + row[place + 2:]
+
+
+def spread(lets, row):
+    """Of each row that let ways lead to from this one: the fewest changes."""
+    found = {row: 0}
+    queue = [row]
+    for earlier in queue:
+        for _, later in let_steps(lets, earlier):
+            if later not in found:
+                found[later] = found[earlier] + 1
+                queue.append(later)
+    return found
+
+
+def lots_by_going(hands, lets):
+    """All lots, each a list of rows, rising."""
+    return sorted({tuple(sorted(spread(lets, row))) for row in permutations(hands)})
+
+
+def bound_in(rows):
+    """The pairs that stand alike in all of the rows, rising."""
+    return [
+        (a, b)
+        for a, b in permutations(sorted(rows[0]), 2)
+        if all(row.index(a) < row.index(b) for row in rows)
+    ]
+
+
+def standing_otherwise(one, other):
+    """How many pairs stand otherwise in two rows."""
+    return sum((one.index(a) < one.index(b)) != (other.index(a) < other.index(b)) for a, b in combinations(one, 2))
+
+
+def all_rings(hands):
+    """All rings, tuples (three, ahead), rising."""
+    return sorted(
+        (three, ahead)
+        for three in combinations(sorted(hands), 3)
+        for ahead in sets_of([hand for hand in hands if hand not in three])
+    )
+
+
+def orders_of(three):
+    """The six orders of a ring."""
+    i, j, m = three
+    return [(i, j, m), (j, i, m), (j, m, i), (m, j, i), (m, i, j), (i, m, j)]
+
+
+def lets_of_ring(three, ahead):
+    """The six lets of a ring, by what leads from each order to the next one."""
+    found = []
+    for one, other in zip(orders_of(three), orders_of(three)[1:] + orders_of(three)[:1]):
+        place = len(ahead) + (0 if one[0] != other[0] else 1)
+        found.append(wanted_let(ahead + one, place))
+    return found
+
+
+def some_lets(hands, seed, share):
+    """Lets picked here and there: about so many of a hundred."""
+    return [let for let in lets_of(hands) if crc32(f"{seed} {let}".encode()) % 100 < share]
+
+
+def fair_lets(hands, lets):
+    """These lets, and all that follow from them ring by ring, rising."""
+    held = set(lets)
+    size = -1
+    while size != len(held):
+        size = len(held)
+        for three, ahead in all_rings(hands):
+            six = lets_of_ring(three, ahead)
+            if any(all(six[(start + k) % 6] in held for k in range(3)) for start in range(6)):
+                held.update(six)
+    return sorted(held)
