@@ -2,27 +2,31 @@
 
 from aheadbook.errors import NoBreach, Unfair
 from aheadbook.kinds import copied, is_number, rest_of
-from aheadbook.rings import is_ring, marks_of, ring_orders, rings
+from aheadbook.rings import is_ring, marks_of, ring_lets, ring_orders, rings
 
 
 def breaches(book):
     """Of each ring that has any the breach with the least start, rising."""
+    # A dict tells much faster than the book, which first has to see that what it is asked is a let.
+    held = {let: True for let in book.lets()}
     found = []
     for three, ahead in rings(book.hands()):
-        told = marks_of(book, three, ahead)
+        told = [let in held for let in ring_lets(three, ahead)]
         found.extend([(three, ahead, start, in_a_row(told, start)) for start in starts_in(told)[:1]])
     return found
 
 
 def starts_in(told):
     """The numbers from which on a ring with these marks has three lets in a row, but not all six."""
-    return [start for start in range(6) if 3 <= in_a_row(told, start) < 6]
+    if all(told):
+        return []
+    return [start for start in range(6) if in_a_row(told, start) >= 3]
 
 
 def in_a_row(told, start):
-    """How many lets a ring with these marks has in a row, round and round, from this number on."""
+    """How many lets a ring with these marks, not all six, has in a row, round and round, from this number on."""
     count = 0
-    while count < 6 and told[(start + count) % 6]:
+    while told[(start + count) % 6]:
         count = count + 1
     return count
 

@@ -4,12 +4,15 @@ import unittest
 
 from aheadbook.books import Book
 from aheadbook.breaches import shown
+from aheadbook.counting import count_ahead, count_rows, number_of, places_of, row_at
+from aheadbook.fairlots import parted, way, web_at
 from aheadbook.heads import heads, nexts
 from aheadbook.lets import every_let
 from aheadbook.lots import fewest, lot, nearest
 from aheadbook.makers import by_between, by_counts, by_pairs, by_web
 from aheadbook.overs import count_over, is_between, over, over_at
 from aheadbook.rows import changed, let_at, turned
+from aheadbook.tallies import count_lots_by
 from aheadbook.ways import walked
 from aheadbook.webs import keeps, ties
 
@@ -43,6 +46,16 @@ CALLS = [
     lambda thing: fewest(Book(ROW), thing, ROW),
     lambda thing: nearest(Book(ROW), ROW, thing),
     lambda thing: shown(Book(ROW), thing),
+    lambda thing: count_rows(ROW, thing),
+    lambda thing: row_at(ROW, (), thing),
+    lambda thing: number_of(ROW, (), thing),
+    lambda thing: places_of(ROW, (), thing),
+    lambda thing: count_ahead(ROW, (), thing, "ann"),
+    lambda thing: count_ahead(ROW, (), "ann", thing),
+    lambda thing: web_at(Book(ROW), thing),
+    lambda thing: parted(Book(ROW), ROW, thing),
+    lambda thing: way(Book(ROW), thing, ROW),
+    lambda thing: count_lots_by(Book(ROW), thing),
 ]
 
 

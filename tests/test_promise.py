@@ -5,10 +5,24 @@ from itertools import combinations, permutations
 
 from aheadbook.books import Book
 from aheadbook.breaches import breaches, is_fair, shown
+from aheadbook.counting import count_rows
+from aheadbook.fairlots import parted, way, web_at, webs
+from aheadbook.looker import is_lot
 from aheadbook.lots import bound, fewest, lots
 from aheadbook.makers import by_between, by_counts, by_pairs, by_web
+from aheadbook.tallies import count_lots
 from aheadbook.ways import walked
-from tests.things import NAMES, fair_lets, keeping, lets_of, some_lets, spread, standing_otherwise, webs_of
+from tests.things import (
+    NAMES,
+    fair_books_of,
+    fair_lets,
+    keeping,
+    lets_of,
+    some_lets,
+    spread,
+    standing_otherwise,
+    webs_of,
+)
 
 
 def every_book_of_three():
@@ -86,6 +100,44 @@ class FairTest(unittest.TestCase):
                 self.assertIn(other, keeping(book.hands(), bound(rows)))
                 self.assertEqual(standing_otherwise(last, other), 1)
                 self.assertNotEqual(fewest(book, last, other), 1)
+
+
+class LotsTest(unittest.TestCase):
+    """The second row of [4]: of fair books, up to five hands."""
+
+    def test_a_web_that_the_looker_takes_tells_a_lot(self):
+        for hands, lets in fair_books_of(5):
+            book = Book(hands, lets)
+            for rows in lots(book):
+                told = {web_at(book, row) for row in rows}
+                self.assertEqual(len(told), 1)
+                web = told.pop()
+                self.assertIs(is_lot(book, web), True)
+                self.assertEqual(keeping(hands, web), rows)
+                self.assertEqual(count_rows(hands, web), len(rows))
+
+    def test_of_two_rows_a_shortest_way_of_lets_or_a_pair(self):
+        for hands, lets in fair_books_of(5):
+            book = Book(hands, lets)
+            rows = list(permutations(hands))
+            for one, other in zip(rows[::3], rows[1::2] + rows[::5]):
+                pair = parted(book, one, other)
+                if pair is None:
+                    told = way(book, one, other)
+                    self.assertEqual(len(told), standing_otherwise(one, other))
+                    self.assertEqual(walked(book, one, told)[-1], other)
+                else:
+                    a, b = pair
+                    self.assertIn(pair, bound(sorted(spread(set(lets), one))))
+                    self.assertLess(other.index(b), other.index(a))
+
+    def test_lots_and_their_rows_are_counted(self):
+        for hands, lets in fair_books_of(5):
+            book = Book(hands, lets)
+            told = webs(book)
+            self.assertEqual(len(told), len(lots(book)))
+            self.assertEqual(count_lots(book), len(told))
+            self.assertEqual(sum(count_rows(hands, web) for web in told), len(list(permutations(hands))))
 
 
 if __name__ == "__main__":

@@ -274,3 +274,21 @@ def fair_lets(hands, lets):
             if any(all(six[(start + k) % 6] in held for k in range(3)) for start in range(6)):
                 held.update(six)
     return sorted(held)
+
+
+def fair_books_of(most):
+    """Hands and lets of fair books, here and there."""
+    for many in range(1, most + 1):
+        hands = NAMES[:many]
+        for seed, share in enumerate([0, 4, 8, 12, 16, 25, 40, 100]):
+            yield hands, fair_lets(hands, some_lets(hands, seed, share))
+        # All that the rows which keep a web want, to go through them alone.
+        for pairs in [[], [("ann", "bob")], [("bob", "ann"), ("bob", "cay")], [("cay", "ann"), ("dan", "bob")]]:
+            held = [pair for pair in pairs if pair[0] in hands and pair[1] in hands]
+            rows = keeping(hands, held)
+            yield hands, sorted({
+                wanted_let(row, k)
+                for row in rows
+                for k in range(many - 1)
+                if all((row[k], row[k + 1]) != pair for pair in following(hands, held))
+            })
