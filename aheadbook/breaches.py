@@ -1,18 +1,30 @@
 """Breaches: rings that have three lets in a row and lack one; a fair book has none."""
 
 from aheadbook.errors import NoBreach, Unfair
-from aheadbook.kinds import copied, is_number, rest_of
-from aheadbook.rings import is_ring, marks_of, ring_lets, ring_orders, rings
+from aheadbook.kinds import copied, is_number, rest_of, sets_at
+from aheadbook.rings import is_ring, marks_of, ring_orders
+from aheadbook.ringtables import torn_rings
+from aheadbook.tables import ones_of
 
 
 def breaches(book):
     """Of each ring that has any the breach with the least start, rising."""
-    # A dict tells much faster than the book, which first has to see that what it is asked is a let.
-    held = {let: True for let in book.lets()}
     found = []
-    for three, ahead in rings(book.hands()):
-        told = [let in held for let in ring_lets(three, ahead)]
-        found.extend([(three, ahead, start, in_a_row(told, start)) for start in starts_in(told)[:1]])
+    for ring in torn_rings(book.table()):
+        found.extend(breaches_of(book.hands(), ring))
+    return found
+
+
+def breaches_of(hands, ring):
+    """The breaches with the least starts of the rings of one three, rising."""
+    places, marks, torn = ring
+    three = tuple([hands[place] for place in places])
+    sets = sets_at(hands)
+    found = []
+    for ahead, number in sorted([(sets[number], number) for number in ones_of(torn)]):
+        told = [mark >> number & 1 for mark in marks]
+        start = starts_in(told)[0]
+        found.append((three, ahead, start, in_a_row(told, start)))
     return found
 
 
@@ -33,14 +45,14 @@ def in_a_row(told, start):
 
 def is_fair(book):
     """Whether no ring has a breach."""
-    return not breaches(book)
+    return not torn_rings(book.table())
 
 
 def check_fair(book):
     """Refuses a book that is not fair."""
-    found = breaches(book)
-    if found:
-        raise Unfair(found[0])
+    torn = torn_rings(book.table())
+    if torn:
+        raise Unfair(breaches_of(book.hands(), torn[0])[0])
 
 
 def is_breach(book, thing):

@@ -2,9 +2,8 @@
 
 from aheadbook.breaches import check_fair
 from aheadbook.errors import Parted
-from aheadbook.kinds import rest_of, sets_of, united
 from aheadbook.overs import over
-from aheadbook.rows import check_row, exchanged, wanted
+from aheadbook.rows import check_row
 
 
 def web_at(book, row):
@@ -34,18 +33,56 @@ def way(book, one, other):
 def webs(book):
     """The webs of all lots, rising."""
     check_fair(book)
-    hands = book.hands()
-    tails = {hands: [()]}
-    # Rows that are of one lot behind a set and one more hand are so behind the set, too,
-    # with this hand ahead of them: one row of each lot behind the greater sets is enough.
-    for members in sorted(sets_of(hands), key=len, reverse=True)[1:]:
-        found = {}
-        for hand in rest_of(hands, members):
-            for tail in tails[united(members, (hand,))]:
-                longer = (hand,) + tail
-                found[web_of(book, members + longer)] = longer
-        tails[members] = [found[web] for web in found]
-    return sorted([web_of(book, row) for row in tails[()]])
+    table = book.table()
+    many = len(table)
+    lots = {(1 << many) - 1: [((), (0,) * many)]}
+    # A set with one hand more has a greater number: what falls in behind it is known.
+    for ahead in reversed(range((1 << many) - 1)):
+        found = []
+        for hand in range(many):
+            if not ahead >> hand & 1:
+                found.extend(lots_from(table, ahead, hand, lots[ahead | (1 << hand)]))
+        lots[ahead] = found
+    return webs_by(book.hands(), [before for _, before in lots[0]])
+
+
+def lots_from(table, ahead, hand, lots):
+    """The lots behind a set in which this hand is the least that can come next, by the lots behind both.
+
+    A lot is told by places: one of its rows, and of each hand what its web has ahead of it.
+    """
+    found = []
+    for tail, before in lots:
+        held = held_by(table, ahead, hand, tail, before)
+        # A lot comes up once for each hand that can come next: the least one of them tells it.
+        if not [other for other in tail if other < hand and not before[other] and not held >> other & 1]:
+            found.append(((hand,) + tail, put_ahead(before, hand, held)))
+    return found
+
+
+def held_by(table, ahead, hand, tail, before):
+    """The hands of the tail, by places, that stay behind this one, which comes next behind the set ahead."""
+    held = 0
+    for other in tail:
+        # Who stays behind a held one is held. Else all that it has ahead of it can go ahead of the hand,
+        # and it too, where it is let behind just these.
+        if before[other] & held or not table[hand][other] >> (ahead | before[other]) & 1:
+            held = held | (1 << other)
+    return held
+
+
+def put_ahead(before, hand, held):
+    """What each hand has ahead of it, when this one is ahead of the held ones, too."""
+    return tuple([some | (1 << hand) if held >> place & 1 else some for place, some in enumerate(before)])
+
+
+def webs_by(hands, lots):
+    """The webs, rising, by what each hand has ahead of it in each lot."""
+    twos = [(a, b) for a in range(len(hands)) for b in range(len(hands)) if a != b]
+    # As the hands rise with their places, so do the pairs with their numbers here: numbers are sorted sooner.
+    pairs = [(hands[a], hands[b]) for a, b in twos]
+    found = [[k for k, (a, b) in enumerate(twos) if before[b] >> a & 1] for before in lots]
+    return [tuple([pairs[k] for k in web]) for web in sorted(found)]
 
 
 def first_broken(web, row):
@@ -58,30 +95,13 @@ def first_broken(web, row):
 
 def web_of(book, row):
     """The web of the row's lot in what surely is a fair book."""
-    pairs = []
-    for hand in row:
-        pairs.extend([(hand, other) for other in held_behind(book, row, hand)])
-    return tuple(sorted(pairs))
-
-
-def held_behind(book, row, hand):
-    """The hands that stand behind this one in each row of the lot."""
-    held = []
-    current = row
-    # Those that the hand does not hold are led ahead of it, one by one. So between it and the
-    # other stand just held ones: the other is held where one of these, or the hand, stops it.
-    for other in row[row.index(hand) + 1:]:
-        current = brought_ahead(book, current, hand, other)
-        if current.index(hand) < current.index(other):
-            held.append(other)
-    return held
-
-
-def brought_ahead(book, row, hand, other):
-    """The row when lets have led the other as far ahead as they do, at most to just ahead of the hand."""
-    current = row
-    place = row.index(other) - 1
-    while place >= row.index(hand) and book.has(wanted(current, place)):
-        current = exchanged(current, place)
-        place = place - 1
-    return current
+    hands = book.hands()
+    table = book.table()
+    tail = ()
+    before = (0,) * len(hands)
+    ahead = (1 << len(hands)) - 1
+    for hand in reversed([hands.index(name) for name in row]):
+        ahead = ahead ^ (1 << hand)
+        before = put_ahead(before, hand, held_by(table, ahead, hand, tail, before))
+        tail = (hand,) + tail
+    return webs_by(hands, [before])[0]

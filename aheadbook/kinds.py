@@ -57,10 +57,15 @@ def is_rising(things):
 
 def sets_of(hands):
     """All sets of these hands, rising."""
+    return sorted(sets_at(hands))
+
+
+def sets_at(hands):
+    """All sets of these hands, each at the number that has a one for each hand in it, the least hand's lowest."""
     found = [()]
     for hand in sorted(hands):
         found = found + [members + (hand,) for members in found]
-    return sorted(found)
+    return found
 
 
 def rest_of(hands, members):

@@ -11,7 +11,7 @@ def is_let(hands, thing):
     # Both are hands before they are compared: other things may have no order.
     if p not in hands or q not in hands or not p < q:
         return False
-    return is_set(rest_of(hands, (p, q)), ahead)
+    return is_set(hands, ahead) and p not in ahead and q not in ahead
 
 
 def every_let(hands):

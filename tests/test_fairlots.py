@@ -55,6 +55,10 @@ def combinations_but(hands, pair):
     return [other for other in combinations(hands, 2) if other != pair]
 
 
+def reversed_hands(hands):
+    return list(reversed(hands))
+
+
 def rows_here_and_there(hands):
     """Some rows of hands, far from one another."""
     yield tuple(hands)
@@ -186,6 +190,44 @@ class GreatTest(unittest.TestCase, Refusing):
                 self.assertIs(parted(book, row, NAMES), None)
                 way(book, row, NAMES)
         self.assertLess(time.perf_counter() - begun, 60)
+
+
+class OftenTest(unittest.TestCase):
+    """All lots' webs, asked of many books in a row."""
+
+    def books(self):
+        five, six = ["a", "b", "c", "d", "e"], ["a", "b", "c", "d", "e", "f"]
+        yield Book(five, [])
+        yield by_counts(five, [1])
+        yield by_counts(six, [2, 3])
+        yield by_counts(six, [1, 2, 3])
+        yield by_counts(six, [0, 4])
+        yield by_counts(six, [0, 1, 2, 3, 4])
+        yield by_between(six, 1, None)
+        yield by_between(five, 1, 1, both=True)
+        yield by_pairs(six, [("a", "b"), ("d", "c"), ("e", "f"), ("a", "f")])
+        yield by_web(five, (("b", "a"), ("b", "d"), ("c", "d")))
+        for seed, share in [(1, 10), (2, 20), (3, 25)]:
+            yield Book(reversed_hands(six), fair_lets(six, some_lets(six, seed, share)))
+            yield Book(five, fair_lets(five, some_lets(five, seed, share)))
+
+    def test_as_lots_gone_through_row_by_row(self):
+        for book in self.books():
+            wanted = sorted(tuple(bound_in(rows)) for rows in lots_by_going(book.hands(), set(book.lets())))
+            told = webs(book)
+            self.assertEqual(told, wanted)
+            told.reverse()
+            del told[1:]
+            self.assertEqual(webs(book), wanted)
+
+    def test_in_a_short_time(self):
+        # Leading the hands of each row past one another one by one took several times as long.
+        books = list(self.books())[:4]
+        begun = time.perf_counter()
+        for _ in range(100):
+            for book in books:
+                webs(book)
+        self.assertLess(time.perf_counter() - begun, 3)
 
 
 class RefusedTest(unittest.TestCase, Refusing):

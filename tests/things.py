@@ -292,3 +292,117 @@ def fair_books_of(most):
                 for k in range(many - 1)
                 if all((row[k], row[k + 1]) != pair for pair in following(hands, held))
             })
+
+
+# Of ann, bob, cay, dan: what is no set of them.
+NO_SETS = NOTHINGS + [
+    [],
+    ["ann"],
+    ("bob", "ann"),
+    ("ann", "ann"),
+    ("zoe",),
+    ("ann", "zoe"),
+    ("Ann",),
+    ("ann", "bob", "cay", "dan", "eve"),
+    (("ann",),),
+    ("ann", ["bob"]),
+    ("ann", None),
+    (True,),
+    "bob",
+    {"ann": "ann"},
+]
+
+# What is no name.
+NO_NAMES = NOTHINGS[:7] + NOTHINGS[8:] + [
+    "Ann",
+    "anN",
+    "ninesigns",
+    "ann1",
+    "a b",
+    "ann\n",
+    "a_b",
+    "`",
+    "{",
+    ("ann",),
+    ["ann"],
+    {"ann": 1},
+]
+
+
+def of_set(amounts, members):
+    """What the amounts of these hands add to."""
+    return sum(amounts[hand] for hand in members)
+
+
+def as_set(hands):
+    """The hands, rising."""
+    return tuple(sorted(hands))
+
+
+def gains_by_words(table, row):
+    """Of each hand what the set ahead wins by it."""
+    return {hand: table[as_set(row[:k + 1])] - table[as_set(row[:k])] for k, hand in enumerate(row)}
+
+
+def rising_lets(hands, table):
+    """The lets that rise, rising."""
+    return [
+        (p, q, ahead)
+        for p, q, ahead in lets_of(hands)
+        if table[as_set(ahead + (p,))] + table[as_set(ahead + (q,))] < table[as_set(ahead + (p, q))] + table[ahead]
+    ]
+
+
+def covering_table(hands, goods, prices):
+    """The worths of goods: each of those that any of a set has, once."""
+    return {some: sum(prices[good] for good in set().union(*(goods[hand] for hand in some))) for some in sets_of(hands)}
+
+
+def capped_table(hands, rows):
+    """The worths of caps on sets."""
+    return {some: sum(min(most, len(set(some) & set(each))) for each, most in rows) for some in sets_of(hands)}
+
+
+def sum_table(one, other):
+    """Each set's worths added."""
+    return {members: one[members] + other[members] for members in one}
+
+
+def picked(seed, count):
+    """A number below count, picked here and there."""
+    return crc32(str(seed).encode()) % count
+
+
+def some_goods(hands, seed):
+    """Goods of each hand, and prices."""
+    goods = {hand: ["gnu" * (picked((seed, hand, k), 2) + 1) + "abcde"[picked((seed, k, hand), 5)]
+                    for k in range(picked((seed, hand), 4))] for hand in hands}
+    names = sorted({good for hand in hands for good in goods[hand]} | {"unheld"})
+    return goods, {good: picked((seed, good), 5) for good in names}
+
+
+def some_caps(hands, seed):
+    """Rows (set, most)."""
+    return [
+        (as_set(hand for hand in hands if picked((seed, k, hand), 3)), picked((seed, k), len(hands) + 1))
+        for k in range(1 + seed % 3)
+    ]
+
+
+def falling_tables(hands, many):
+    """Tables of falling worths, so many."""
+    for seed in range(many):
+        table = capped_table(hands, some_caps(hands, seed))
+        if seed % 3:
+            table = sum_table(table, covering_table(hands, *some_goods(hands, seed)))
+        if seed % 2:
+            # What each hand brings wherever it comes, also below 0, lets worths fall as they do.
+            alone = {hand: picked((seed, hand, "alone"), 9) - 5 for hand in hands}
+            table = sum_table(table, {members: of_set(alone, members) for members in table})
+        yield table
+
+
+def other_tables(hands, many):
+    """Tables of worths, so many, which mostly are not falling."""
+    for seed in range(many):
+        yield {members: picked((seed, members), 7) - 3 if members else 0 for members in sets_of(hands)}
