@@ -1,5 +1,6 @@
 """[20] How many lots there are; [2] of them."""
 
+import time
 import unittest
 from itertools import combinations
 from math import factorial
@@ -8,7 +9,7 @@ from aheadbook.books import Book
 from aheadbook.breaches import breaches
 from aheadbook.errors import NoHead, Unfair
 from aheadbook.heads import heads
-from aheadbook.makers import by_counts, by_pairs
+from aheadbook.makers import by_between, by_counts, by_pairs, by_web
 from aheadbook.tallies import behind, count_lots, count_lots_by, is_behind
 from tests.test_fairlots import BOOK, THREE, TORN, great_books, torn_books
 from tests.things import (
@@ -17,6 +18,7 @@ from tests.things import (
     Refusing,
     bound_in,
     fair_books_of,
+    fair_lets,
     lets_of,
     lots_by_going,
     sets_of,
@@ -189,6 +191,46 @@ class IsBehindTest(unittest.TestCase):
 
     def test_by_names(self):
         self.assertIs(is_behind(thing=TABLE, book=BOOK), True)
+
+
+class OftenTest(unittest.TestCase, Refusing):
+    """Tables of six to eight hands, asked of many books in a row."""
+
+    def books(self):
+        for many in (6, 7, 8):
+            hands = NAMES[:many]
+            yield by_counts(hands, range(many - 1))
+            yield by_counts(hands, [0, 1, many - 2])
+            yield by_pairs(hands, [("ann", "bob"), ("bob", "cay"), ("ann", "cay"), ("eve", "fay")])
+            yield by_between(hands, 1, None)
+            yield by_web(hands, (("cay", "ann"), ("dan", "ann"), ("dan", "bob")))
+            yield Book(hands, fair_lets(hands, some_lets(hands, many, 8)))
+
+    def test_the_sums_as_the_words_tell(self):
+        for book in self.books():
+            hands, lets = book.hands(), set(book.lets())
+            table = table_by_words(hands, lets)
+            told = behind(book)
+            self.assertEqual(told, table)
+            self.assertEqual(list(told), sorted(sets_of(hands), key=len, reverse=True))
+            self.assertIs(is_behind(book, told), True)
+            self.assertEqual(count_lots(book), table[()])
+            for head in [(), hands, hands[:2], hands[1:4], hands[::3], hands[2:]]:
+                own = [let for let in lets if {*let[:2], *let[2]} <= set(head)]
+                before = table_by_words(head, set(own))[()]
+                self.assertEqual(count_lots_by(book, head), table[head] * before)
+            told.clear()
+            self.assertEqual(behind(book), table)
+
+    def test_in_a_short_time(self):
+        # Asking the book let by let for each set took several times as long.
+        book = by_counts(list("abcdefgh"), range(7))
+        begun = time.perf_counter()
+        for _ in range(50):
+            self.assertIs(is_behind(book, behind(book)), True)
+            self.assertEqual(count_lots_by(book, ("a", "b")), 1)
+            self.assertEqual(count_lots(book), 1)
+        self.assertLess(time.perf_counter() - begun, 2)
 
 
 class CountTest(unittest.TestCase, Refusing):
