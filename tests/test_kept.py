@@ -4,19 +4,33 @@ import unittest
 
 from aheadbook.books import Book
 from aheadbook.breaches import shown
+from aheadbook.bylots import book_of, both
 from aheadbook.counting import count_ahead, count_rows, number_of, places_of, row_at
 from aheadbook.fairlots import parted, way, web_at
+from aheadbook.grounds import bringing, ground
 from aheadbook.heads import heads, nexts
 from aheadbook.lets import every_let
+from aheadbook.lore import Lore
 from aheadbook.lots import fewest, lot, nearest
 from aheadbook.makers import by_between, by_counts, by_pairs, by_web
+from aheadbook.others import after, before, renamed
 from aheadbook.overs import count_over, is_between, over, over_at
 from aheadbook.rows import changed, let_at, turned
 from aheadbook.tallies import count_lots_by
 from aheadbook.ways import walked
 from aheadbook.webs import keeps, ties
+from aheadbook.worths import Worths, capped, covering, gains
 
 ROW = ("ann", "bob")
+WORTHS = capped(ROW, [(ROW, 1)])
+
+
+def lore_of_a_row():
+    lore = Lore(ROW)
+    lore.keep("left", ROW)
+    return lore
+
+
 CALLS = [
     lambda thing: turned(thing, ROW),
     lambda thing: turned(ROW, thing),
@@ -56,6 +70,31 @@ CALLS = [
     lambda thing: parted(Book(ROW), ROW, thing),
     lambda thing: way(Book(ROW), thing, ROW),
     lambda thing: count_lots_by(Book(ROW), thing),
+    lambda thing: ground(Book(ROW), thing),
+    lambda thing: bringing(Book(ROW), thing, ROW),
+    lambda thing: bringing(Book(ROW), ROW, thing),
+    lambda thing: book_of(ROW, [thing]),
+    lambda thing: both(ROW, thing, ()),
+    lambda thing: both(ROW, (), thing),
+    lambda thing: after(Book(ROW), thing),
+    lambda thing: before(Book(ROW), thing),
+    lambda thing: renamed(Book(ROW), thing),
+    lambda thing: Worths(thing, {}),
+    WORTHS.worth,
+    lambda thing: gains(WORTHS, thing),
+    lambda thing: covering(thing, {}, {}),
+    lambda thing: capped(thing, []),
+    Lore,
+    lambda thing: lore_of_a_row().tell(thing, ("ann", "bob", ())),
+    lambda thing: lore_of_a_row().tell("tom", thing),
+    lambda thing: lore_of_a_row().ground(thing),
+    lambda thing: lore_of_a_row().keep(thing, ROW),
+    lambda thing: lore_of_a_row().keep("left", thing),
+    lambda thing: lore_of_a_row().leave(thing),
+    lambda thing: lore_of_a_row().go(thing, 0),
+    lambda thing: lore_of_a_row().go("left", thing),
+    lambda thing: lore_of_a_row().apart(thing, "left"),
+    lambda thing: lore_of_a_row().apart("left", thing),
 ]
 
 

@@ -5,19 +5,32 @@ from itertools import combinations, permutations
 
 from aheadbook.books import Book
 from aheadbook.breaches import breaches, is_fair, shown
+from aheadbook.bylots import book_of
 from aheadbook.counting import count_rows
+from aheadbook.errors import NoGround, NotPaid
 from aheadbook.fairlots import parted, way, web_at, webs
+from aheadbook.falling import even_book, rise
+from aheadbook.grounds import ground, is_ground, least_fair
 from aheadbook.looker import is_lot
+from aheadbook.lore import Lore
 from aheadbook.lots import bound, fewest, lots
 from aheadbook.makers import by_between, by_counts, by_pairs, by_web
+from aheadbook.mixtures import is_mixture, mixed
+from aheadbook.payments import is_bar, paid
+from aheadbook.prices import best, bound_of, least
 from aheadbook.tallies import count_lots
 from aheadbook.ways import walked
+from aheadbook.worths import Worths, gains
 from tests.things import (
     NAMES,
+    Refusing,
     fair_books_of,
     fair_lets,
+    falling_tables,
     keeping,
     lets_of,
+    of_set,
+    picked,
     some_lets,
     spread,
     standing_otherwise,
@@ -138,6 +151,151 @@ class LotsTest(unittest.TestCase):
             self.assertEqual(len(told), len(lots(book)))
             self.assertEqual(count_lots(book), len(told))
             self.assertEqual(sum(count_rows(hands, web) for web in told), len(list(permutations(hands))))
+
+
+class GroundsTest(unittest.TestCase, Refusing):
+    """The third row of [4]."""
+
+    def test_a_ground_that_the_looker_walks_or_a_fair_book_that_lacks_it(self):
+        found = set()
+        for book in [*list(every_book_of_three())[::5], *books_here_and_there()]:
+            least_book = least_fair(book)
+            self.assertIs(fair_by_going(least_book), True)
+            self.assertTrue(all(least_book.has(let) for let in book.lets()))
+            for let in lets_of(book.hands())[::3]:
+                follows = least_book.has(let)
+                found.add(follows)
+                if follows:
+                    self.assertIs(is_ground(book, let, ground(book, let)), True)
+                else:
+                    self.refused(NoGround, {"asked": let}, ground, book, let)
+        self.assertEqual(found, {True, False})
+
+    def test_what_has_a_ground_is_in_each_fair_book_that_has_the_lets(self):
+        books = list(every_book_of_three())
+        fair = [book for book in books if fair_by_going(book)]
+        for book in books:
+            above = [other for other in fair if all(other.has(let) for let in book.lets())]
+            for let in lets_of(NAMES[:3]):
+                follows = all(other.has(let) for other in above)
+                self.assertIs(least_fair(book).has(let), follows)
+
+
+class ToldTest(unittest.TestCase):
+    """The fourth row of [4]."""
+
+    def test_fair_books_and_lists_of_webs_are_told_from_one_another(self):
+        told = {}
+        for book in [*every_book_of_three(), *made_books(), *books_here_and_there()]:
+            if is_fair(book):
+                some = webs(book)
+                self.assertEqual(book_of(book.hands(), some), book)
+                self.assertEqual(book_of(book.hands(), some[::-1]), book)
+                told.setdefault((book.hands(), tuple(some)), book)
+                self.assertEqual(told[(book.hands(), tuple(some))], book)
+
+
+class WorthsTest(unittest.TestCase):
+    """The fifth row of [4]: of falling worths, by going through rows."""
+
+    def worths(self):
+        for many in range(1, 5):
+            hands = NAMES[:many]
+            for table in falling_tables(hands, 6):
+                yield Worths(hands, table), list(permutations(hands))
+
+    def test_two_orders_pay_alike_just_where_they_are_of_one_lot(self):
+        for worths, rows in self.worths():
+            self.assertIsNone(rise(worths))
+            book = even_book(worths)
+            for one in rows:
+                for other in rows:
+                    alike = gains(worths, one) == gains(worths, other)
+                    self.assertIs(parted(book, one, other) is None, alike)
+                self.assertEqual(paid(worths, gains(worths, one)), web_at(book, one))
+
+    def test_what_no_order_pays_has_a_bar(self):
+        for worths, rows in self.worths():
+            told = [gains(worths, row) for row in rows]
+            for k in range(20):
+                pay = self.near(worths, told, k)
+                try:
+                    web = paid(worths, pay)
+                    paying = [row for row in rows if gains(worths, row) == pay]
+                    self.assertEqual(paying, keeping(rows[0], web))
+                except NotPaid as error:
+                    self.assertNotIn(pay, told)
+                    self.assertIs(is_bar(worths, pay, error.bar), True)
+
+    def test_what_no_mixture_pays_has_a_set_that_gets_too_much(self):
+        for worths, rows in self.worths():
+            told = [gains(worths, row) for row in rows]
+            for k in range(20):
+                pay = self.near(worths, told, k)
+                try:
+                    self.assertIs(is_mixture(worths, pay, mixed(worths, pay)), True)
+                except NotPaid as error:
+                    self.assertIs(is_bar(worths, pay, error.bar), True)
+                    # No row, and so no mixture, pays a set more than its worth, or all together another sum.
+                    word, *some = error.bar
+                    members = some[0] if some else rows[0]
+                    most, asked = max(of_set(gain, members) for gain in told), of_set(pay, members)
+                    self.assertTrue(most < asked or (word == "all" and most != asked))
+
+    def near(self, worths, told, k):
+        """Payments of a row, some of which are moved."""
+        hands = worths.hands()
+        pay = dict(told[picked((k, "row"), len(told))])
+        for step in range(k % 4):
+            pay[hands[picked((k, step), len(hands))]] += picked((step, k), 3) - 1
+        return pay
+
+    def test_no_order_brings_more_than_the_told_one_by_a_paper(self):
+        for worths, rows in self.worths():
+            for k in range(6):
+                prices = {hand: picked((k, hand), 9) - 4 for hand in worths.hands()}
+                every = [sum(gain * prices[hand] for hand, gain in gains(worths, row).items()) for row in rows]
+                row, number, paper = best(worths, prices)
+                self.assertEqual((number, every[rows.index(row)]), (max(every), max(every)))
+                self.assertEqual(bound_of(worths, prices, paper), number)
+                row, number, paper = least(worths, prices)
+                self.assertEqual((number, every[rows.index(row)]), (min(every), min(every)))
+                self.assertEqual(bound_of(worths, prices, paper, low=True), number)
+
+
+class HistoryTest(unittest.TestCase):
+    """The sixth row of [4]."""
+
+    def test_just_what_follows_from_what_is_told_and_not_struck_holds(self):
+        for hands in (NAMES[:3], NAMES[:4]):
+            lets = lets_of(hands)
+            for seed in range(8):
+                lore, said, states = Lore(hands), [], [[]]
+                for k in range(20):
+                    let, teller = lets[picked((seed, k), len(lets))], ("tom", "amy")[picked((k, seed), 2)]
+                    if said and not picked((seed, "strike", k), 3):
+                        teller, let = said[0]
+                        lore.strike(teller, let)
+                        said = [each for each in said if each != (teller, let)]
+                    else:
+                        lore.tell(teller, let)
+                        said = [each for each in said if each != (teller, let)] + [(teller, let)]
+                    states.append(list(said))
+                    self.holding(lore, said)
+                for back in range(1, 21):
+                    lore.back()
+                    self.holding(lore, states[-1 - back])
+                for k in range(1, 13):
+                    lore.on()
+                    self.holding(lore, states[k])
+
+    def holding(self, lore, said):
+        lets = sorted({let for _, let in said})
+        self.assertEqual([let for let, _ in lore.told()], lets)
+        hands = lore.book().hands()
+        wanted = fair_lets(hands, lets)
+        self.assertEqual([let for let in lets_of(hands) if lore.holds(let)], wanted)
+        self.assertEqual(lore.book().lets(), wanted)
 
 
 if __name__ == "__main__":
