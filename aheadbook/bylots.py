@@ -14,8 +14,7 @@ def book_of(hands, webs):
     ordered = tuple(sorted(hands))
     for web in webs:
         check_web(ordered, web)
-    # A lot is told by places here: of each hand the number of the set that its web has ahead of it.
-    lots = [[number_of_set(ordered, [a for a, b in web if b == hand]) for hand in ordered] for web in webs]
+    lots = [lot_by(ordered, each) for each in webs]
     check_apart(ordered, webs, lots)
     lacked = factorial(len(ordered)) - sum([count_of(lot) for lot in lots])
     if lacked:
@@ -23,6 +22,11 @@ def book_of(hands, webs):
     inside, outside = sides_of(len(ordered), lots)
     check_not_torn(ordered, inside, outside)
     return book_by(ordered, inside)
+
+
+def lot_by(hands, web):
+    """The lot of the web, by places: of each hand the number of the set that the web has ahead of it."""
+    return [number_of_set(hands, [a for a, b in web if b == hand]) for hand in hands]
 
 
 def check_apart(hands, webs, lots):
@@ -86,7 +90,7 @@ def nexts_of(free, lot):
     for hand, before in enumerate(lot):
         for other in ones_of(before):
             heads = heads & (free[hand] | (every ^ free[other]))
-    return [heads & (heads >> (1 << hand)) & ones for hand, ones in enumerate(free)]
+    return [heads & (heads >> (1 << place)) & ones for place, ones in enumerate(free)]
 
 
 def tied_ones(nexts, one, other):

@@ -114,10 +114,10 @@ def all_gains(worths):
     hands = worths.hands()
     numbers = worths.numbers()
     found = {hand: 0 for hand in hands}
-    for number in range(len(numbers)):
+    for number in range(len(numbers) - 1):
         ahead = len(ones_of(number))
-        # Those ahead and those behind the hand can stand in any order.
-        orders = factorial(ahead) * factorial(len(hands) - 1 - ahead) if ahead < len(hands) else 0
+        # Those ahead of the hand that comes next can stand in any order, and so can those behind it.
+        orders = factorial(ahead) * factorial(len(hands) - 1 - ahead)
         for place, hand in enumerate(hands):
             if not number >> place & 1:
                 found[hand] = found[hand] + orders * (numbers[number | (1 << place)] - numbers[number])

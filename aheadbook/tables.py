@@ -34,7 +34,7 @@ def table_of(hands, lets):
     """The table of these lets of these hands, a set."""
     spots = {hand: place for place, hand in enumerate(hands)}
     numbers = {members: number for number, members in enumerate(sets_at(hands))}
-    found = [[0 for _ in hands] for _ in hands]
+    found = empty_rows(len(hands))
     for p, q, ahead in lets:
         also_let(found, spots[p], spots[q], 1 << numbers[ahead])
     return table_copied(found)
